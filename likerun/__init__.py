@@ -1,0 +1,1 @@
+"""Likerun: one program, every way of running it, the same run."""
