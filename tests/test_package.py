@@ -33,7 +33,21 @@ INTERFACE = {
     "datum": ("write_datum", "read_datum"),
     "signs": ("tokens", "layout"),
     "trees": ("read_tree",),
+    "printing": ("print_tree", "without_lines"),
+    "scopes": ("Unit", "Program", "read_program", "meaning"),
+    "memory": ("Store",),
+    "heap": ("Heap",),
 }
+# The methods and properties that stand in the body of the class itself, and the class values.
+MEMBERS = {
+    "Program": ("read",),
+    "Store": ("make", "kind_of", "tag_of", "slots_of", "slot", "set_slot", "change", "reach", "graph", "__len__", "KINDS"),
+    "Heap": ("make", "set_slot", "change", "__len__", "collect", "faults", "young", "old", "remembered"),
+}
+DUNDERS = ("__init__", "__len__")
+DECORATORS = ("property", "staticmethod")
+# The functions that yield: no other function or method has such a name.
+GENERATORS = ()
 
 
 def package_files():
@@ -80,7 +94,7 @@ class TestPackage(unittest.TestCase):
 
     def test_each_function_says_what_it_is_for(self):
         for name, node in self.nodes(ast.FunctionDef, ast.ClassDef):
-            if node.name != "__init__":
+            if node.name not in DUNDERS:
                 self.assertIsNotNone(ast.get_docstring(node), (name, node.name))
 
     def test_imports(self):
@@ -90,8 +104,7 @@ class TestPackage(unittest.TestCase):
         for name, node in self.nodes(ast.ImportFrom):
             folder, _, module = node.module.partition(".")
             self.assertEqual((folder, node.level), ("likerun", 0), name)
-            defined = [part.name for part in self.trees[module + ".py"].body
-                       if isinstance(part, (ast.FunctionDef, ast.ClassDef))]
+            defined = self.defined(module)
             for alias in node.names:
                 self.assertIsNone(alias.asname, name)
                 self.assertIn(alias.name, defined, name)
@@ -104,6 +117,15 @@ class TestPackage(unittest.TestCase):
             self.assertTrue(free, "files that import from each other")
             for name in free:
                 del uses[name]
+
+    def defined(self, module):
+        """Return the names that a file defines itself."""
+        body = self.trees[module + ".py"].body
+        return [part.name for part in body if isinstance(part, (ast.FunctionDef, ast.ClassDef))] + [
+            part.targets[0].id for part in body if isinstance(part, ast.Assign)]
+
+    def classes(self):
+        return [part for tree in self.trees.values() for part in tree.body if isinstance(part, ast.ClassDef)]
 
     def test_module_level(self):
         for name, tree in self.trees.items():
@@ -137,22 +159,33 @@ class TestPackage(unittest.TestCase):
     def test_statements_and_expressions(self):
         barred = (
             ast.Global, ast.AsyncFunctionDef, ast.Await, ast.Div, ast.Set, ast.SetComp, ast.AnnAssign, ast.Starred,
-            ast.Match, ast.With, ast.NamedExpr, ast.Lambda, ast.GeneratorExp, ast.Yield, ast.YieldFrom, ast.Try)
+            ast.Match, ast.With, ast.NamedExpr, ast.Lambda, ast.GeneratorExp, ast.YieldFrom)
         for name, node in self.nodes(*barred):
             self.fail((name, node.lineno))
         for name, node in self.nodes(ast.FunctionDef, ast.ClassDef):
-            self.assertEqual(node.decorator_list, [], name)
+            for part in node.decorator_list:
+                self.assertIn(ast.unparse(part), DECORATORS, name)
+                self.assertIsInstance(node, ast.FunctionDef)
+        for name, node in self.nodes(ast.Try):
+            self.assertEqual(node.finalbody, [], (name, node.lineno))
+            for part in node.handlers:
+                self.assertIn(ast.unparse(part.type), INTERFACE["errors"], (name, node.lineno))
+        for name, node in self.nodes(ast.FunctionDef):
+            yields = [part for part in ast.walk(node) if isinstance(part, ast.Yield)]
+            plain = [part for part in ast.walk(node) if isinstance(part, ast.Expr) and isinstance(part.value, ast.Yield)]
+            self.assertEqual(len(yields), len(plain), (name, node.name))
+            self.assertEqual(bool(yields), node.name in GENERATORS, (name, node.name))
         for name, node in self.nodes(ast.Constant):
             self.assertNotIsInstance(node.value, (float, complex), name)
 
     def test_names(self):
         for name, node in self.nodes(ast.Name, ast.arg, ast.FunctionDef, ast.ClassDef, ast.Attribute):
             word = getattr(node, "id", None) or getattr(node, "arg", None) or getattr(node, "name", None) or node.attr
-            self.assertRegex(word, r"^(_|_?[A-Za-z][A-Za-z0-9_]*|__init__)$", name)
+            self.assertTrue(re.fullmatch("_|_?[A-Za-z][A-Za-z0-9_]*", word) or word in DUNDERS, (name, word))
             self.assertNotIn(word, BARRED, name)
             if isinstance(node, ast.Name) and isinstance(node.ctx, ast.Load):
                 self.assertTrue(word in BUILTINS or not hasattr(builtins, word), (name, word))
-            elif not isinstance(node, ast.Attribute) and word != "__init__":
+            elif not isinstance(node, ast.Attribute) and word not in DUNDERS:
                 self.assertFalse(hasattr(builtins, word), (name, word))
 
     def test_names_of_imports_and_classes_mean_one_thing(self):
@@ -166,16 +199,66 @@ class TestPackage(unittest.TestCase):
                     self.assertNotIn(node.id, taken, name)
 
     def test_methods(self):
-        own = [node.name for _, tree in self.trees.items() for part in tree.body if isinstance(part, ast.ClassDef)
-               for node in part.body if isinstance(node, ast.FunctionDef)]
+        own = [node.name for part in self.classes() for node in part.body if isinstance(node, ast.FunctionDef)]
+        values = [node.targets[0].id for part in self.classes() for node in part.body if isinstance(node, ast.Assign)]
         stored = [node.attr for _, node in self.nodes(ast.Attribute) if isinstance(node.ctx, ast.Store)]
         self.assertEqual(set(own) & set(stored), set())
-        for word in own + stored:
+        self.assertEqual(set(values) & set(own + stored), set())
+        for word in own + stored + values:
             self.assertFalse(any(hasattr(kind, word) for kind in (str, int, list, dict, set, bytes, tuple))
-                             and word != "__init__", word)
+                             and word not in DUNDERS, word)
         for name, node in self.nodes(ast.Call):
             if isinstance(node.func, ast.Attribute):
                 self.assertIn(node.func.attr, own + METHODS, name)
+
+    def test_attributes_are_assigned_somewhere(self):
+        own = [node.name for part in self.classes() for node in part.body if isinstance(node, ast.FunctionDef)]
+        values = [node.targets[0].id for part in self.classes() for node in part.body if isinstance(node, ast.Assign)]
+        stored = [node.attr for _, node in self.nodes(ast.Attribute) if isinstance(node.ctx, ast.Store)]
+        for name, node in self.nodes(ast.Attribute):
+            if isinstance(node.ctx, ast.Load):
+                self.assertIn(node.attr, own + values + stored + METHODS, (name, node.lineno))
+
+    def test_attributes_that_are_stored_are_read(self):
+        read = [node.attr for _, node in self.nodes(ast.Attribute) if isinstance(node.ctx, ast.Load)]
+        told = ("tree", "cells", "free", "name", "value", "line", "column", "option", "unit", "paper", "word", "level")
+        for name, node in self.nodes(ast.Attribute):
+            if isinstance(node.ctx, ast.Store):
+                self.assertIn(node.attr, read + list(told), (name, node.lineno))
+
+    def test_properties(self):
+        """No method that is no property, and no other class's attribute, has a property's name."""
+        properties = {}
+        for part in self.classes():
+            for node in part.body:
+                if isinstance(node, ast.FunctionDef) and "property" in [ast.unparse(row) for row in node.decorator_list]:
+                    properties[node.name] = True
+                    self.assertEqual(len(node.args.args), 1)
+        for part in self.classes():
+            for node in part.body:
+                if isinstance(node, ast.FunctionDef) and node.name in properties:
+                    self.assertTrue(node.decorator_list, node.name)
+        for name, node in self.nodes(ast.Attribute):
+            if isinstance(node.ctx, ast.Store):
+                self.assertNotIn(node.attr, properties, name)
+        for name, node in self.nodes(ast.Call):
+            if isinstance(node.func, ast.Attribute):
+                self.assertNotIn(node.func.attr, properties, (name, node.lineno))
+
+    def test_a_name_is_one_function(self):
+        """A function is used, and no two functions of the package have one name."""
+        names = [part.name for tree in self.trees.values() for part in tree.body if isinstance(part, ast.FunctionDef)]
+        self.assertEqual(sorted(names), sorted(set(names)))
+        listed = [word for words in INTERFACE.values() for word in words]
+        for word in names:
+            uses = [node for _, node in self.nodes(ast.Name) if node.id == word]
+            self.assertTrue(uses or word in listed, word)
+        uses = [node.attr for _, node in self.nodes(ast.Attribute)]
+        members = [word for words in MEMBERS.values() for word in words]
+        for part in self.classes():
+            for node in part.body:
+                if isinstance(node, ast.FunctionDef) and node.name not in DUNDERS:
+                    self.assertTrue(node.name in uses or node.name in members, node.name)
 
     def test_strings(self):
         for name, node in self.nodes(ast.Constant):
@@ -216,10 +299,14 @@ class TestPackage(unittest.TestCase):
 
     def test_interface(self):
         for module, names in INTERFACE.items():
-            defined = [part.name for part in self.trees[module + ".py"].body
-                       if isinstance(part, (ast.FunctionDef, ast.ClassDef))]
             for word in names:
-                self.assertIn(word, defined)
+                self.assertIn(word, self.defined(module))
+        bodies = {part.name: part.body for part in self.classes()}
+        for word, names in MEMBERS.items():
+            found = [node.name for node in bodies[word] if isinstance(node, ast.FunctionDef)]
+            found += [node.targets[0].id for node in bodies[word] if isinstance(node, ast.Assign)]
+            for name in names:
+                self.assertIn(name, found, word)
 
     def test_readme(self):
         text = read_file(os.path.join(ROOT, "README.md"))
