@@ -42,3 +42,8 @@ def quoted(text):
     # The backslash goes first: the other escapes bring new ones.
     inner = text.replace("\\", "\\\\").replace("\"", "\\\"").replace("\n", "\\n")
     return "\"" + inner + "\""
+
+
+def is_source(text):
+    """Tell whether a source text may hold all the characters of a string, line feeds included."""
+    return is_row(text.replace("\n", " "))

@@ -37,17 +37,30 @@ INTERFACE = {
     "scopes": ("Unit", "Program", "read_program", "meaning"),
     "memory": ("Store",),
     "heap": ("Heap",),
+    "values": ("is_true", "equal", "ordered", "is_key", "kind_word", "ERROR_CLASSES", "BUILTINS"),
+    "showing": ("show", "text_of"),
+    "operations": ("unary", "binary", "compare", "load_item", "store_item", "delete_item", "load_slice"),
+    "fields": (
+        "find_field", "is_within", "is_error_class", "is_error", "load_field", "store_field", "delete_field",
+        "get_iterator", "fetch"),
+    "natives": ("bind", "call_builtin", "call_native"),
+    "pictures": ("measure", "draw"),
+    "runner": ("Runner", "ROOM", "FUEL", "DEPTH"),
+    "reading": ("Reading",),
 }
 # The methods and properties that stand in the body of the class itself, and the class values.
 MEMBERS = {
     "Program": ("read",),
     "Store": ("make", "kind_of", "tag_of", "slots_of", "slot", "set_slot", "change", "reach", "graph", "__len__", "KINDS"),
     "Heap": ("make", "set_slot", "change", "__len__", "collect", "faults", "young", "old", "remembered"),
+    "Runner": (
+        "prints", "lines", "steps", "end", "trace", "advance", "finish", "walk", "picture", "names", "room_used",
+        "report"),
 }
 DUNDERS = ("__init__", "__len__")
 DECORATORS = ("property", "staticmethod")
 # The functions that yield: no other function or method has such a name.
-GENERATORS = ()
+GENERATORS = ("walk",)
 
 
 def package_files():
