@@ -1,5 +1,8 @@
 """Random programs of which most parts run: with functions, classes, generators, and errors that are caught or not."""
 
+from likerun.errors import TooLong
+from likerun.scopes import read_program
+
 PRELUDE = '''class E(Error):
     code = 1
     def told(self):
@@ -361,3 +364,12 @@ class ProgramMaker:
             self.generators.append(name)
         if not margin:
             self.functions.append((name, params, defaults))
+
+
+def random_program(rng):
+    """Return a random program; a text that is too long is dropped."""
+    while True:
+        try:
+            return read_program(ProgramMaker(rng).text())
+        except TooLong:
+            pass
