@@ -225,6 +225,7 @@ def finish_if(run, frame, task):
     chosen = task[1] if is_true(run.memory, frame.stack.pop()) else task[2]
     frame.plan_block(chosen, [])
 
+
 def do_nothing(run, frame, task):
     """A declaration takes no step, and has done its work when the units were made."""
 

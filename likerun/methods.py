@@ -2,7 +2,7 @@
 
 from likerun.errors import Fault
 from likerun.operations import found_key_index, index_of, key_index, take_item, take_key
-from likerun.sizes import ITEM_LIMIT, TEXT_LIMIT, check_size, list_value, text_value
+from likerun.sizes import ITEM_LIMIT, check_size, list_value, text_value
 from likerun.values import NONE, kind_word
 
 
@@ -129,8 +129,6 @@ def text_join(memory, a, given):
     """Return texts joined with a text between them."""
     items = need_items(memory, given[0])
     need_texts(items)
-    size = sum([len(item[1]) for item in items]) + len(a[1]) * max(0, len(items) - 1)
-    check_size(size, TEXT_LIMIT)
     return text_value(a[1].join([item[1] for item in items]))
 
 

@@ -4,6 +4,9 @@ from likerun.memory import address_of
 from likerun.showing import object_name, plain_word
 from likerun.values import UNSET
 
+# The words of the entries that may refer to an object.
+REFERRING = {"ref": True, "handled": True, "pending": True}
+
 
 def visible_slots(memory, value):
     """Return the slots of an object that can be seen."""
@@ -31,10 +34,12 @@ def visible_objects(memory, entries):
 def meet_visible(entries, met, found):
     """Put the objects of entries that are not yet met behind the others."""
     for entry in entries:
-        address = address_of(entry)
-        if address is not None and address not in met:
-            met[address] = True
-            found.append(("ref", address))
+        # Most entries are plain; they are left out at once, because each step asks for the measure.
+        if entry[0] in REFERRING:
+            address = address_of(entry)
+            if address is not None and address not in met:
+                met[address] = True
+                found.append(("ref", address))
 
 
 def measure(memory, entries):

@@ -263,9 +263,9 @@ class TestPackage(unittest.TestCase):
         names = [part.name for tree in self.trees.values() for part in tree.body if isinstance(part, ast.FunctionDef)]
         self.assertEqual(sorted(names), sorted(set(names)))
         listed = [word for words in INTERFACE.values() for word in words]
+        used = {node.id for _, node in self.nodes(ast.Name)}
         for word in names:
-            uses = [node for _, node in self.nodes(ast.Name) if node.id == word]
-            self.assertTrue(uses or word in listed, word)
+            self.assertTrue(word in used or word in listed, word)
         uses = [node.attr for _, node in self.nodes(ast.Attribute)]
         members = [word for words in MEMBERS.values() for word in words]
         for part in self.classes():

@@ -75,6 +75,11 @@ class TestPictures(MemoryCase):
         self.same(measure(self.memory, []), 0)
         self.same(measure(self.memory, [NONE, number(5), ("unset",), ("builtin", "len")]), 0)
 
+    def test_marks_among_the_entries_that_are_measured(self):
+        a, b = self.put([1]), self.put([1, 2])
+        self.same(measure(self.memory, [("handled", a[1]), ("pending", 1, b), ("pending", 4, ("handled", a[1])),
+                                        ("pending", 0, NONE), ("unset",)]), 7)
+
     def test_long_texts_are_written_in_full(self):
         value = self.put(["\"" * 500])
         self.same(draw(self.memory, [("x", value), ("y", text("\n" * 500))]),

@@ -82,6 +82,9 @@ class TestShow(MemoryCase):
         # Shown twice, but not within itself.
         part = self.put([1])
         self.check([Raw(part), Raw(part)], "[[1], [1]]")
+        error = self.instance(("errorclass", "Error"), message=Raw(part))
+        self.check([Raw(error), Raw(part), Raw(error)], "[Error([1]), [1], Error([1])]")
+        self.check({1: Raw(part), 2: (Raw(part), Raw(part))}, "{1: [1], 2: ([1], [1])}")
 
     def nested(self, many, inner, kinds=("list",)):
         """Return so many objects within each other around a value."""
@@ -125,7 +128,9 @@ class TestShow(MemoryCase):
         self.same(text_of(self.memory, text("a" * 500)), "a" * 500)
         self.check('"' * 249, '"' + '\\"' * 249 + '"')
         self.refused('"' * 249 + "a")
-        self.refused("\n" * 250)
+        for sign, shown in (("\n", "\\n"), ("\\", "\\\\"), ('"', '\\"')):
+            self.check(sign * 249, '"' + shown * 249 + '"')
+            self.refused(sign * 250)
         self.refused("\\" * 500)
         self.check([10 ** 59] * 8 + [10], "[1" + "0" * 59 + (", 1" + "0" * 59) * 7 + ", 10]")
         self.refused([10 ** 59] * 8 + [100])

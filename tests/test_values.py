@@ -133,6 +133,15 @@ class TestEqual(MemoryCase):
         # The order is that of the first dict: from the other side the missing key is met first.
         self.same(equal(self.memory, self.put({"c": 2, "b": Raw(other)}), self.put({"a": 1, "b": Raw(long)})), False)
 
+    def test_a_missing_key_is_no_pair(self):
+        for a, b in (({"a": [1]}, {"b": [1]}), ({"a": {}}, {"b": {}}), ({"a": Raw(self.function())}, {"b": 1})):
+            self.check(self.put(a), self.put(b), False)
+        # 1 for the dicts, 1 for the lists, 998 for their items: the missing key would be the 1,001st.
+        long, other = [self.memory.make("list", None, [number(1)] * 998) for _ in range(2)]
+        a, b = self.put({"a": Raw(long), "b": 1}), self.put({"a": Raw(other), "c": 1})
+        self.check(a, b, False)
+        self.fails("SizeError", equal, a, self.put({"a": Raw(other), "b": 1}))
+
     def test_pairs_within_a_pair_go_first(self):
         deep = self.nested(994)
         other = self.nested(994)
