@@ -12,7 +12,7 @@ POSTFIX = 8
 ATOM = 9
 
 LEVELS = {
-    "lambda": 0, "choose": 0, "or": 1, "and": 2, "not": 3, "compare": 4, "+": 5, "-": 5, "*": 6, "//": 6, "mod": 6,
+    "lambda": 0, "choose": 0, "or": 1, "and": 2, "compare": 4, "+": 5, "-": 5, "*": 6, "//": 6, "mod": 6,
     "attribute": 8, "item": 8, "slice": 8, "call": 8,
 }
 

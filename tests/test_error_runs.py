@@ -111,6 +111,11 @@ class TestTry(RunCase):
         self.check("try:\n  1 // 0\nexcept Error as e:\n  pass\nprint(e)", "ZeroError()")
         self.check("def f():\n  try:\n    1 // 0\n  except Error as e:\n    pass\n  return lambda: e\nprint(f()())", "ZeroError()")
         self.check("e = 1\ntry:\n  1 // 0\nexcept KeyError as e:\n  pass\nexcept:\n  print(e)", "1")
+        # Without a name nothing is bound.
+        run = self.check("try:\n  1 // 0\nexcept ZeroError:\n  pass\ntry:\n  1 // 0\nexcept:\n  pass")
+        self.same(run.picture(), "globals\nobjects")
+        run = self.check("class W:\n  def enter(s):\n    pass\n  leave = lambda s, e: None\nwith W():\n  pass\ndel W")
+        self.same(run.picture(), "globals\nobjects")
 
     def test_else(self):
         self.check("try:\n  print(1)\nexcept:\n  print(2)\nelse:\n  print(3)\nfinally:\n  print(4)", "1", "3", "4")

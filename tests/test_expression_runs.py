@@ -42,6 +42,8 @@ class TestOrder(RunCase):
         self.order("print(t(1) < t(2) < t(3))", "1", "2", "3", "True")
         self.order("print(t(1) < t(1) < t(3))", "1", "1", "False")
         self.order("print(t(1) < t(2) > t(1) == t(1))", "1", "2", "1", "1", "True")
+        self.order("print(t(1) < t(2) > t(0) != t(5) <= t(6) is t(6))", "1", "2", "0", "5", "6", "6", "True")
+        self.order("print(t(1) < t(2) > t(0) != t(5) <= t(4) is t(6))", "1", "2", "0", "5", "4", "False")
         self.order("print(t(1) < t(2) in t([3]) == t(1))", "1", "2", "[3]", "False")
         self.order("print((t(1) < t(2)) == t(True))", "1", "2", "True", "True")
         # The comparison goes ahead of the next operand.
@@ -143,10 +145,63 @@ class TestNames(RunCase):
                    "print(h())", "3")
         self.check("def f(x):\n  class A:\n    y = x\n    def g(s):\n      return x\n  x += 1\n  return A\nprint(f(1).y, f(1)().g())", "1 2")
 
+    def test_cells_behind_defaults(self):
+        self.check("def f(k):\n  def g(a, b=2, c=3):\n    return a, b, c, k\n  return g\nprint(f(9)(1), f(8)(1, 5))", "(1, 2, 3, 9) (1, 5, 3, 8)")
+        self.check("def f(j, k):\n  return lambda a=j: (a, j, k)\ng = f(1, 2)\nprint(g(), g(5))", "(1, 1, 2) (5, 1, 2)")
+
+    def test_cells_that_are_emptied(self):
+        told = "  try:\n    print(g())\n  except NameError as e:\n    print(e)\n"
+        self.check("def f():\n  x = 1\n  g = lambda: x\n  del x\n" + told + "  x = 2\n" + told + "f()", 'NameError("x")', "2")
+        self.check("def f():\n  x = 1\n  def g():\n    return x\n  def h():\n    nonlocal x\n    del x\n  h()\n" + told + "  x = 3\n" + told +
+                   "  h()\n" + told + "f()", 'NameError("x")', "3", 'NameError("x")')
+        self.error("def f():\n  x = 1\n  g = lambda: x\n  del x\n  del x\nf()", ("NameError", '"x"', (("main", 6), ("f", 5))))
+        # The global name of that spelling is another one.
+        self.check("x = 7\ndef f():\n  x = 1\n  g = lambda: x\n  del x\n  x = 2\n  return g()\nprint(f(), x)", "2 7")
+
     def test_names_that_statements_bind(self):
         self.check("def f():\n  for a, b in [(1, 2), (3, 4)]:\n    pass\n  return a, b\nprint(f())", "(3, 4)")
         self.check("for n in [1, 2]:\n  pass\nprint(n)", "2")
         self.check("try:\n  [][0]\nexcept RangeError as e:\n  pass\nprint(e)", "RangeError()")
+
+
+class TestUnitsInEachPlace(RunCase):
+    """Functions, lambdas and comprehensions in each place of an expression and of a statement."""
+
+    def test_expressions(self):
+        forms = (
+            ("{}", "[5]"), ("({}, 1)", "([5], 1)"), ("(1, {})", "(1, [5])"), ("[{}, 1, {}]", "[[5], 1, [5]]"),
+            ("{{1: {}, 2: {}}}", "{1: [5], 2: [5]}"), ("{{({})[0]: 1}}", "{5: 1}"), ("-({})[0]", "-5"), ("not {}", "False"),
+            ("{} + [1]", "[5, 1]"), ("[1] + {}", "[1, 5]"), ("{} * 2 + {}", "[5, 5, 5]"), ("{} == [5] == {}", "True"),
+            ("[4] < {} < [6]", "True"), ("{} and 1", "1"), ("1 and {}", "[5]"), ("0 or {} or 2", "[5]"), ("1 if {} else 2", "1"),
+            ("{} if 1 else 2", "[5]"), ("2 if 0 else {}", "[5]"), ("[n + {} for n in [{}]]", "[[5, 5]]"),
+            ("[n for n in {} if {}]", "[5]"), ("(lambda: {})()", "[5]"),
+            ("(lambda a={}, b={}: a + b + {})()", "[5, 5, 5]"), ("len({})", "1"), ("t({}, b={})", "([5], [5])"),
+            ("t(b={}, a={})", "([5], [5])"), ("({}).pop()", "5"), ("({})[0]", "5"), ("[0, 1, 2, 3, 4, 6][({})[0]]", "6"),
+            ("({})[:({})[0]]", "[5]"), ("[7, 8][({})[0] - 4:]", "[8]"), ("\"abcdefg\"[::({})[0]]", '"af"'))
+        for unit in ("[k for k in [5]]", "(lambda k: [k])(5)", "(lambda: [k for k in [5]])()", "[k for k in (lambda: [5])()]"):
+            for form, wanted in forms:
+                # Each unit on a row of its own: a row has its limit.
+                self.values((form.format(*["\n" + unit] * form.count("{}")), wanted), before="def t(a, b):\n  return a, b")
+
+    def test_statements(self):
+        unit = "(lambda: [k for k in [5]])()"
+        before = "class E(Error):\n  pass\nx = [0, 1, 2, 3, 4, 6]\n"
+        for text, wanted in (
+                ("x = {0}\nprint(x)", "[5]"), ("x[({0})[0]] = {0}\nprint(x[5])", "[5]"), ("a, x[({0})[0]] = {0}, 1\nprint(a, x[5])", "[5] 1"),
+                ("a = E()\n(lambda: a)().y = {0}\nprint(a.y)", "[5]"), ("x += {0}\nprint(x)", "[0, 1, 2, 3, 4, 6, 5]"),
+                ("x[({0})[0]] += ({0})[0]\nprint(x[5])", "11"), ("del x[({0})[0]]\nprint(x)", "[0, 1, 2, 3, 4]"),
+                ("if {0}:\n  print({0})\nelif {0}:\n  pass", "[5]"), ("if 0:\n  {0}\nelif {0}:\n  print({0})\nelse:\n  {0}", "[5]"),
+                ("if 0:\n  {0}\nelse:\n  print({0})", "[5]"), ("while {0}:\n  print({0})\n  break", "[5]"),
+                ("while not {0}:\n  {0}\nelse:\n  print({0})", "[5]"), ("for n in {0}:\n  print({0}, n)\nelse:\n  {0}", "[5] 5"),
+                ("for n in []:\n  {0}\nelse:\n  print({0})", "[5]"), ("def f(a={0}, b={0}):\n  return a, b, {0}\nprint(f())", "([5], [5], [5])"),
+                ("class A:\n  a = {0}\n  def f(s, b={0}):\n    return b\n  c = {0}\nprint(A.a, A().f(), A.c)", "[5] [5] [5]"),
+                ("try:\n  raise Error({0}) from E({0})\nexcept (lambda: Error)() as e:\n  print({0}, e, e.cause)", "[5] Error([5]) E([5])"),
+                ("try:\n  {0}\nexcept (lambda: Error)():\n  {0}\nelse:\n  print({0})\nfinally:\n  {0}", "[5]"),
+                ("try:\n  {0}\nfinally:\n  print({0})", "[5]"), ("def f():\n  yield {0}\n  a = yield {0}\nprint([n for n in f()])", "[[5], [5]]"),
+                ("class W:\n  def enter(s):\n    return {0}\n  def leave(s, e):\n    {0}\nwith (lambda: W())() as w:\n  print({0}, w)", "[5] [5]")):
+            self.check(before + text.format(unit), wanted)
+            # The units behind the statement keep their numbers.
+            self.check(before + text.format(unit) + "\nprint((lambda: 8)())", wanted, "8")
 
 
 class TestStatements(RunCase):
@@ -179,6 +234,7 @@ class TestStatements(RunCase):
         self.fails("FieldError", "class A:\n  pass\nA().n += 1", value='"n"')
         self.fails("KeyError", "x = {}\nx[5] += 1", value="5")
         self.check("x = 1, 2\nx += 3, 4\nprint(x)", "(1, 2, 3, 4)")
+        self.check("class A:\n  n = 1\na = A()\nx = [0, 0]\nfor i in [0, 1]:\n  for j in [5, 6]:\n    a.n += j\n    x[i] += j\nprint(a.n, x)", "23 [11, 11]")
 
     def test_delete(self):
         self.check("x = {1: 2, 3: 4}\ndel x[1]\nprint(x)", "{3: 4}")

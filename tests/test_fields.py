@@ -220,6 +220,19 @@ class TestFields(MemoryCase):
         self.fails("FieldError", delete_field, value, "x", value=text("x"))
         self.same(load_field(self.memory, value, "x"), number(1))
 
+    def test_each_attribute_has_its_place(self):
+        names = ("a", "b", "c", "d")
+        slots = [number(at) for at in range(4)]
+        cls = self.cls()
+        for at, name in enumerate(names):
+            value = self.memory.make("instance", (names, ()), [cls] + slots)
+            store_field(self.memory, value, name, TRUE)
+            self.same(self.memory.tag_of(value), (names, ()))
+            self.same(self.memory.slots_of(value), [cls] + slots[:at] + [TRUE] + slots[at + 1:])
+            delete_field(self.memory, value, name)
+            self.same(self.memory.tag_of(value), (names[:at] + names[at + 1:], ()))
+            self.same(self.memory.slots_of(value), [cls] + slots[:at] + slots[at + 1:])
+
     def test_other_values(self):
         for value in self.others("instance"):
             self.fails("KindError", store_field, value, "x", NONE)

@@ -168,6 +168,41 @@ class TestGenerators(RunCase):
         self.check("def outer():\n  k = 5\n  def f():\n    nonlocal k\n    while True:\n      yield k\n      k += 1\n  return f(), f()\na, b = outer()\n"
                    "print(next(a), next(b), next(a), next(b))", "5 5 6 7")
 
+    def test_names_of_generators(self):
+        # The slots of the unit in order, then the free names; the entry of a name with a cell is the cell.
+        text = ("def f(k, j):\n  def g(b, a=[1]):\n    c = k\n    h = lambda: b + k\n    yield j\n  return g(2)\ng = f([3], 4)\nnext(g)\n0")
+        run = reading(text)
+        while run.lines[-1:] != [("main", 8)]:
+            run.advance()
+        self.same(run.picture(), """globals
+  f = #1
+  g = #2
+frame main line 8
+objects
+  #1 function f
+  #2 generator g new 2 (b a c h j k) #3 #4 unset unset #5 #6
+  #3 cell 2
+  #4 list 1
+  #5 cell 4
+  #6 cell #7
+  #7 list 3""")
+        self.same(run.room_used(), 2 + 8 + 3 + 3 + 3 + 3 + 3)
+        while run.lines[-1:] != [("main", 9)]:
+            run.advance()
+        self.same(run.picture(), """globals
+  f = #1
+  g = #2
+frame main line 9
+objects
+  #1 function f
+  #2 generator g waiting 5 (b a c h j k) #3 #4 #5 #6 #7 #8
+  #3 cell 2
+  #4 list 1
+  #5 list 3
+  #6 function lambda #3 #8
+  #7 cell 4
+  #8 cell #5""")
+
     def test_conversions(self):
         # Only a fetch, next and the methods resume a generator.
         self.fails("KindError", "def f():\n  yield 1\nlist(f())", "def f():\n  yield 1\nlen(f())", "def f():\n  yield 1\na, = f()",

@@ -281,9 +281,10 @@ class TestHeap(unittest.TestCase):
         heap.set_slot(ref(0), 0, ref(9))
         self.same(heap.remembered, [0])
         self.same(heap.faults([ONE, ("unset",)]), [("dangling", at) for at in (5, 7, 9, 12, 40)])
-        entries = [ref(8)]
-        self.same(Heap().faults(entries), [("dangling", 8)])
-        self.same(entries, [ref(8)])
+        self.same(Heap().faults([ref(8)]), [("dangling", 8)])
+        entries = [ref(8), ref(0)]
+        self.same(heap.faults(entries), [("dangling", at) for at in (5, 7, 8, 9, 12, 40)])
+        self.same(entries, [ref(8), ref(0)])
 
     def test_void_addresses(self):
         heap = Heap()

@@ -305,6 +305,7 @@ class TestMethods(MemoryCase):
         call_native(self.memory, "extend", value, [value])
         self.same(self.got(value), [1, 2, 1, 2])
         self.numbers_of_arguments([], "extend", [1])
+        self.refused("KindError", [1], "extend", [2], [3])
         for value in self.others("list", "tuple"):
             self.refused("KindError", [1], "extend", Raw(value))
 
@@ -427,6 +428,7 @@ class TestMethods(MemoryCase):
         for value in self.others("list", "tuple"):
             self.refused("KindError", ",", "join", Raw(value))
         self.numbers_of_arguments(",", "join", [1])
+        self.refused("KindError", ",", "join", ["a"], ["b"])
 
     def test_find(self):
         for word, part, wanted in (("abcabc", "c", 2), ("abc", "", 0), ("", "", 0), ("", "a", -1), ("aab", "ab", 1), ("abc", "d", -1),

@@ -390,6 +390,7 @@ class TestEnds(RunCase):
         self.error("raise Error(\"a\")", ("Error", '"a"', (("main", 1),)))
         self.error("raise Error([1, (2,)])", ("Error", "[1, (2,)]", (("main", 1),)))
         self.error("x", ("NameError", '"x"', (("main", 1),)))
+        self.same(self.finished("x").end, ("error", (("NameError", '"x"', (("main", 1),)),)))
         self.error("e = Error(1)\ndel e.message\nraise e", ("Error", "", (("main", 3),)))
         self.error("class E(KeyError):\n  message = 5\n  def init(s):\n    del s.message\ndef f():\n  raise E()\nf()",
                    ("E", "", (("main", 7), ("f", 6))))
