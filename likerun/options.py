@@ -21,6 +21,12 @@ def check_options(inputs, room, fuel, depth):
         raise BadOption("depth")
 
 
+def check_schedule(schedule):
+    """Refuse a schedule of collections that has other entries than 0, 1 and 2."""
+    if not isinstance(schedule, (list, tuple)) or not all([is_between(item, 0, 2) for item in schedule]):
+        raise BadOption("schedule")
+
+
 def is_integer(value):
     """Tell whether a value is an integer, and no truth."""
     return isinstance(value, int) and not isinstance(value, bool)
