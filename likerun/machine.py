@@ -18,9 +18,11 @@ class Machine(Runner):
     """A run that executes one instruction in each tick."""
 
     def __init__(self, compiled, *, inputs=(), room=ROOM, fuel=FUEL, depth=DEPTH, schedule=()):
-        check_code(compiled)
+        # The states before the instructions, which loading asks for.
+        self.shapes = check_code(compiled)
         Runner.__init__(self, Heap(), compiled.codes, inputs, room, fuel, depth)
         check_schedule(schedule)
+        self.compiled = compiled
         self.heap = self.memory
         self.schedule = list(schedule)
         self.ticks = 0
@@ -29,6 +31,11 @@ class Machine(Runner):
         self.actions.update(dict(ACTING))
         # The instructions that have been executed, which have their forms.
         self.known = {}
+
+    def fresh(self):
+        """Return a new run of the same codes with the same options."""
+        return Machine(
+            self.compiled, inputs=self.inputs, room=self.room, fuel=self.fuel, depth=self.depth, schedule=self.schedule)
 
     def work(self):
         """Do the next tick."""

@@ -20,9 +20,14 @@ class Reading(Runner):
 
     def __init__(self, program, *, inputs=(), room=ROOM, fuel=FUEL, depth=DEPTH):
         Runner.__init__(self, Store(), program.units, inputs, room, fuel, depth)
+        self.program = program
         self.bodies = numbered_bodies(program.units)
         # The frames of the generators that are new or waiting, by the addresses of the generators.
         self.asleep = {}
+
+    def fresh(self):
+        """Return a new run of the same program with the same options."""
+        return Reading(self.program, inputs=self.inputs, room=self.room, fuel=self.fuel, depth=self.depth)
 
     def work(self):
         """Do the next task of the innermost frame; before the first one the program itself is entered."""

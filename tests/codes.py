@@ -1,6 +1,6 @@
 """Codes that the compiler does not write: those of programs, with instructions put in, changed and left out."""
 
-from likerun.checker import check_code
+from likerun.checker import check_unit
 from likerun.code import Code, Compiled
 from likerun.errors import BadCode
 
@@ -42,9 +42,12 @@ def with_rows(code, rows, handlers=None, slots=None):
         extra=code.extra, handlers=code.handlers if handlers is None else tuple(handlers))
 
 
-def is_accepted(compiled):
+def is_accepted(compiled, before):
+    """Tell whether the checker accepts codes that have come of accepted ones by changes within units."""
     try:
-        check_code(compiled)
+        for number, code in enumerate(compiled.codes):
+            if code is not before.codes[number]:
+                check_unit(compiled.codes, number)
     except BadCode:
         return False
     return True
@@ -136,7 +139,7 @@ def random_codes(rng, compiled, many):
     changes = 0
     for _ in range(20 * many):
         after = mutated(rng, compiled)
-        if is_accepted(after):
+        if is_accepted(after, compiled):
             compiled = after
             changes += 1
             if changes == many:

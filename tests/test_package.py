@@ -51,6 +51,11 @@ INTERFACE = {
     "compiler": ("compile_program",),
     "checker": ("check_code",),
     "machine": ("Machine",),
+    "papers": ("apply_paper", "replay"),
+    "optimiser": ("optimise", "PASSES"),
+    "saving": ("save", "load"),
+    "debugger": ("Debugger", "Watch", "watch_steps"),
+    "whole": ("run_text",),
 }
 # The methods and properties that stand in the body of the class itself, and the class values.
 MEMBERS = {
@@ -63,11 +68,15 @@ MEMBERS = {
     "Code": ("__eq__", "__len__"),
     "Compiled": ("__eq__", "__len__"),
     "Machine": ("tick", "collect", "held"),
+    "Debugger": (
+        "step", "over", "out", "go", "where", "add_break", "clear_break", "breaks", "set_patience", "history", "back",
+        "patience", "__contains__"),
+    "Watch": ("seen", "__enter__", "__exit__"),
 }
 DUNDERS = ("__init__", "__len__", "__eq__", "__contains__", "__enter__", "__exit__")
 DECORATORS = ("property", "staticmethod", "patience.setter")
 # The property that may be assigned.
-SETTABLE = ()
+SETTABLE = ("patience",)
 # The functions that yield: no other function or method has such a name.
 GENERATORS = ("walk",)
 
