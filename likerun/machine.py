@@ -119,6 +119,8 @@ class Machine(Runner):
 
     def make_frame(self, number, function, values):
         """Return a frame of a unit, with its parameters bound and its cells made."""
+        if number >= len(self.units):
+            raise MachineFault("a unit that is not there")
         unit = self.units[number]
         entries = dict(zip(unit.parameters, values))
         slots = [UNSET if name in unit.cells else entries.get(name, UNSET) for name in unit.slots]

@@ -94,8 +94,9 @@ def ask_stack(vetting, frame, at, inlined):
     else:
         need(is_natural(inlined))
         number, first = inner
-        frame.inlined = Inlined(number, vetting.units[number], first)
-        frame.inlined.line = inlined
+        function = Inlined(number, vetting.units[number], first)
+        function.line = inlined
+        frame.inlined = function
         behind = first + len(vetting.units[number].slots)
     for place in range(len(frame.unit.slots), len(frame.slots)):
         need(first <= place < behind or frame.slots[place] == UNSET)

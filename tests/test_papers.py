@@ -306,7 +306,7 @@ class TestThread(PaperCase):
                            ("jump", "@s"))
         # No target, a target that is no jump, at the end.
         for at in (0, 1, 3, 4, 5, 6, 8, 9):
-            self.refuses(codes, ("thread", 1, at)) if at != 7 else None
+            self.refuses(codes, ("thread", 1, at))
         self.gives(codes, ("thread", 1, 2), ONE, ("jump_true", "@b"), ("line", 1), "a", ("jump", "@b"), "b", *END, ("jump", "@s"),
                    "s", ("line", 2), ("jump", "@s"))
         for word in ("end_finally", "end_with"):
