@@ -153,6 +153,6 @@ def watch_steps(watch, count, *, forbidden=()):
             watch.runner.advance()
             if watch.runner.steps == steps:
                 break
-            line = watch.runner.lines[-1][1]
+            line = watch.runner.stepped[-1][1]
             if line in forbidden:
                 raise BadLevel(line)
