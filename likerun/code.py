@@ -4,8 +4,9 @@ from likerun.datum import read_datum, write_datum
 from likerun.errors import BadCode
 from likerun.forms import is_formed
 
-# How many fields a code has.
+# How many fields a code has, and how deep one of them may be nested in a note of all.
 FIELD_MANY = 11
+FIELD_DEPTH = 58
 
 
 class Code:
@@ -80,7 +81,22 @@ def has_code_form(fields):
 
 def write_code(compiled):
     """Write codes as one line."""
-    return write_datum(tuple([fields_of(code) for code in compiled.codes]))
+    return write_datum(tuple([tuple([noted(field) for field in fields_of(code)]) for code in compiled.codes]))
+
+
+def noted(field):
+    """Return a field as a part of a note; one that is nested deeper than any form is told by a string."""
+    if depth_of(field) <= FIELD_DEPTH:
+        return field
+    # No field has this form, so what is read again is refused.
+    return (None, write_datum(field))
+
+
+def depth_of(datum):
+    """Return how deep a datum is nested."""
+    if not isinstance(datum, tuple):
+        return 0
+    return 1 + max([depth_of(item) for item in datum], default=0)
 
 
 def read_code(text):

@@ -120,6 +120,18 @@ class TestTexts(unittest.TestCase):
                 read_code(line)
         self.assertEqual(read_datum(write_code(Compiled([]))), ())
 
+    def test_fields_that_are_nested_deep(self):
+        for depth in (57, 58, 59, 60):
+            deep = ()
+            for _ in range(depth - 1):
+                deep = (deep,)
+            for word in FIELDS:
+                codes = Compiled([code_of(), code_of(**{word: deep})])
+                line = write_code(codes)
+                self.assertEqual(write_datum(read_datum(line)), line)
+                with self.assertRaises(BadCode):
+                    read_code(line)
+
     def test_no_notes(self):
         for line in ("", "(", "()x", "( )", "((\"main\"  0))", "(01)", "\n", "codes"):
             with self.assertRaises(BadDatum):
